@@ -1,0 +1,1 @@
+"""Kindbags: papers that count what a program does."""
