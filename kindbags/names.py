@@ -44,12 +44,12 @@ def put_in(program, other):
 
 
 def copies_for(program, depths):
-    # A closed program is the same at every depth; a run puts in no others, and they may be large.
-    closed = not open_names(program)
-    copies = {}
-    for ways in depths:
-        if ways not in copies:
-            copies[ways] = program if closed else lifted(program, ways, 0)
+    # What is put in may be large, so it is lifted only where that changes it, and once for each depth.
+    deeper = sorted(set(depths) - set([0]))
+    closed = len(deeper) > 0 and not open_names(program)
+    copies = {0: program}
+    for ways in deeper:
+        copies[ways] = program if closed else lifted(program, ways, 0)
     return copies
 
 
