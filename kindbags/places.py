@@ -1,19 +1,11 @@
 """Places in a program: what stands there, and the program with something else there."""
 
 from kindbags.programs import inner
+from kindbags.walks import with_paths
 
 
 def places(program):
-    told = []
-    pending = [(program, ())]
-    while pending:
-        entry = pending.pop()
-        told.append(entry[1])
-        inners = inner(entry[0])
-        # The last one is laid down first, so that the first one is taken up first.
-        for k in range(len(inners) - 1, -1, -1):
-            pending.append((inners[k], entry[1] + (k,)))
-    return told
+    return [place for place, part in with_paths(program, inner)]
 
 
 def at_place(program, place):

@@ -1,7 +1,9 @@
 """The next place of a program, and its run."""
 
+from kindbags.answers import is_answer
 from kindbags.programs import inner
 from kindbags.rules import behind, has_rule
+from kindbags.walks import path_of
 
 MOST_PARTS = 3000
 MOST_DEEP = 100
@@ -19,8 +21,7 @@ def next_place(program):
 
 def first_unanswered(program):
     # The first part in the place of an answer that is neither an answer nor a pair, with its place; None of
-    # an answer. A trail (trail of what is around, number) stands for a place until it is asked for, as
-    # places of deep pairs are long.
+    # an answer.
     pending = [(program, None)]
     while pending:
         entry = pending.pop()
@@ -29,17 +30,8 @@ def first_unanswered(program):
             pending.append((one[2], (entry[1], 1)))
             pending.append((one[1], (entry[1], 0)))
         elif one[0] != "whole" and one[0] != "way":
-            return (one, place_of_trail(entry[1]))
+            return (one, path_of(entry[1]))
     return None
-
-
-def place_of_trail(trail):
-    numbers = []
-    rest = trail
-    while rest is not None:
-        numbers.append(rest[1])
-        rest = rest[0]
-    return tuple(reversed(numbers))
 
 
 def place_in_use(program):
@@ -76,7 +68,7 @@ def run(program, most):
         now = later
         rules += 1
         place = next_place(now)
-    word = "answer" if first_unanswered(now) is None else "stuck"
+    word = "answer" if is_answer(now) else "stuck"
     return (word, now, rules)
 
 

@@ -16,8 +16,13 @@ def is_name(text):
 
 
 def is_figures(text):
+    return is_whole_text(text, 9)
+
+
+def is_whole_text(text, most):
+    # Whether it is a whole as it is written, of at most so many figures.
     figures = text[1:] if text.startswith("-") else text
-    if not (1 <= len(figures) <= 9 and made_of(figures, FIGURES)):
+    if not (1 <= len(figures) <= most and made_of(figures, FIGURES)):
         return False
     return not figures.startswith("0") or text == "0"
 

@@ -86,3 +86,70 @@ def same(one, other):
         elif isinstance(a, tuple) or isinstance(b, tuple) or a != b:
             return False
     return True
+
+
+SOME = ("some",)
+
+
+def num(n):
+    return ("is", n)
+
+
+def to(bag, k):
+    """The kind of a way that is given what is used with the kinds of the bag, put in order here."""
+    return ("way", tuple(sorted(bag)), k)
+
+
+def left(k):
+    return ("left", k)
+
+
+def right(k):
+    return ("right", k)
+
+
+def both(k, m):
+    return ("both", k, m)
+
+
+# Kinds as they are written, and their texts.
+KINDS = [
+    (num(0), "0"),
+    (num(7), "7"),
+    (num(-12), "-12"),
+    (num(999999999999), "999999999999"),
+    (num(-999999999999), "-999999999999"),
+    (SOME, "~"),
+    (left(num(1)), "(1,)"),
+    (right(num(1)), "(,1)"),
+    (left(right(SOME)), "((,~),)"),
+    (right(left(to([], num(1)))), "(,([:1],))"),
+    (both(num(1), num(2)), "(1,2)"),
+    (both(SOME, SOME), "(~,~)"),
+    (both(both(num(1), SOME), both(num(-2), num(3))), "((1,~),(-2,3))"),
+    (to([], num(1)), "[:1]"),
+    (to([], to([], SOME)), "[:[:~]]"),
+    (to([num(1)], num(2)), "[1:2]"),
+    (to([num(1), num(1)], SOME), "[1 1:~]"),
+    (to([num(2), num(10), num(-3)], num(9)), "[-3 2 10:9]"),
+    (to([SOME, num(1), left(num(1)), right(num(1)), both(num(1), num(1)), to([], num(1))], num(1)),
+     "[(1,1) 1 (1,) (,1) ~ [:1]:1]"),
+    (to([to([num(1)], num(2)), to([], num(2)), to([num(1), num(1)], num(0))], left(SOME)), "[[:2] [1:2] [1 1:0]:(~,)]"),
+    (to([to([to([num(1)], num(2))], num(3))], to([num(4)], num(5))), "[[[1:2]:3]:[4:5]]"),
+    (left(to([num(1)], both(num(1), SOME))), "([1:(1,~)],)"),
+]
+
+
+def small_kinds(depth):
+    """All kinds that nest at most so deep, of few wholes, bags of at most two kinds."""
+    found = [SOME, num(0), num(1)]
+    for _ in range(depth):
+        inner = found
+        answers = [k for k in inner if k[0] in ("is", "some", "both")]
+        found = [SOME, num(0), num(1)]
+        found += [left(k) for k in inner] + [right(k) for k in inner]
+        found += [both(k, m) for k, m in itertools.product(answers, repeat=2)]
+        for many in range(3):
+            bags = itertools.combinations_with_replacement(sorted(inner), many)
+            found += [("way", bag, k) for bag in bags for k in inner]
+    return found
