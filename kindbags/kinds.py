@@ -20,7 +20,7 @@ def is_kind(thing):
 
 
 def has_kind_form(thing):
-    if not isinstance(thing, tuple) or len(thing) == 0 or not isinstance(thing[0], str):
+    if not isinstance(thing, tuple) or len(thing) == 0:
         return False
     if thing[0] == "is":
         return len(thing) == 2 and is_whole_number(thing[1])

@@ -53,17 +53,27 @@ def path_of(trail):
 
 
 def flat(thing):
-    # A list without lists in it, by which tuples of one form are sorted just as Python sorts the tuples
-    # themselves, however deep they nest: ahead of each item stands ITEM, behind the last one END, which is less.
+    # A list without lists in it, by which kinds, papers and rows of them are sorted just as Python sorts the
+    # tuples themselves, however deep they nest. How long a tuple is that begins with a word hangs on the word
+    # alone; in a row ITEM stands ahead of each item and END, which is less, behind the last one.
     told = []
     pending = [thing]
     while pending:
         one = pending.pop()
-        if isinstance(one, tuple):
+        if not isinstance(one, tuple):
+            told.append(one)
+        elif len(one) > 0 and isinstance(one[0], str):
+            pending.extend(one[::-1])
+        else:
             pending.append(END)
             for item in reversed(one):
                 pending.append(item)
                 pending.append(ITEM)
-        else:
-            told.append(one)
     return told
+
+
+def flat_sorted(things):
+    # A tuple of these kinds or papers, sorted. One by itself, which may be large, needs no looking at.
+    if len(things) < 2:
+        return tuple(things)
+    return tuple(sorted(things, key=flat))

@@ -88,6 +88,33 @@ def same(one, other):
     return True
 
 
+# Texts of closed programs that come to an answer.
+ANSWERING = [
+    "7",
+    "(way x (plus 1 2))",
+    "(pair 1 2)",
+    "(pair (pair 1 (way x x)) (pair 3 4))",
+    "(pair (plus 1 2) (pair (plus 3 4) (way x (plus 1 2))))",
+    "(plus 1 (plus 2 3))",
+    "(plus (plus 1 2) (plus 3 4))",
+    "(give (way x (plus x x)) (plus 1 2))",
+    "(give (way x 1) (first 2))",
+    "(first (pair 1 (first 2)))",
+    "(second (pair (first 2) 1))",
+    "(first (second (pair 1 (pair 2 3))))",
+    "(look (plus 1 -1) 10 (first 2))",
+    "(look -1 (first 2) 20)",
+    "(look 5 (first 2) (pair 1 (plus 2 3)))",
+    "(give (give (way x (way y (pair y x))) 1) (plus 2 3))",
+    "(give (way x (way y x)) (way z z))",
+    "(give (way f (give f (give f 1))) (way x (plus x x)))",
+    "(give (way f (pair (give f 1) (give f (way y f)))) (way x (pair x (way z x))))",
+    "(give (way p (plus (first p) (second p))) (pair (plus 1 2) (plus 3 4)))",
+    "(give (give (way f (give f f)) (way f (way n (look n 0 (plus n (give (give f f) (plus n -1))))))) 5)",
+    "(pair (give (way x (pair x x)) (give (way x (pair x x)) 1)) (look 0 (way a a) 1))",
+]
+
+
 SOME = ("some",)
 
 
@@ -115,6 +142,7 @@ def both(k, m):
 # Kinds as they are written, and their texts.
 KINDS = [
     (num(0), "0"),
+    (num(1), "1"),
     (num(7), "7"),
     (num(-12), "-12"),
     (num(999999999999), "999999999999"),

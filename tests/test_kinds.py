@@ -7,6 +7,7 @@ from kindbags.kinds import answer_kind, is_kind, kind_size, of_answer
 from kindbags.names import put_in
 from kindbags.walks import flat
 
+from plain import plain_kind
 from samples import KINDS, SOME, both, left, name, num, pair, plus, right, same, small_kinds, to, way, whole
 
 ONE, TWO = num(1), num(2)
@@ -31,24 +32,6 @@ WRONG = [
     (None,), (1,), (True,), (None, ONE), (["is"], 1), (("is",), 1), (ONE,), (SOME, ONE), (["some"],), [1], ["is", 1],
     ["some"], ["left", ONE], ["both", ONE, ONE], ["way", (), ONE], [ONE],
 ]
-
-
-def plain_kind(thing):
-    """Whether it is a kind, as the document says it, of things that aren't deep."""
-    if not isinstance(thing, tuple) or not thing or not isinstance(thing[0], str):
-        return False
-    if thing[0] == "is":
-        return len(thing) == 2 and type(thing[1]) is int
-    if thing[0] == "some":
-        return thing == ("some",)
-    if thing[0] == "way":
-        return (len(thing) == 3 and isinstance(thing[1], tuple) and all(plain_kind(k) for k in thing[1])
-                and tuple(sorted(thing[1])) == thing[1] and plain_kind(thing[2]))
-    if thing[0] in ("left", "right"):
-        return len(thing) == 2 and plain_kind(thing[1])
-    if thing[0] == "both":
-        return len(thing) == 3 and all(plain_kind(k) and k[0] in ("is", "some", "both") for k in thing[1:])
-    return False
 
 
 def nested(depth, around, kind):

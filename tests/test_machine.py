@@ -9,34 +9,10 @@ from kindbags.rules import behind
 from kindbags.running import next_place, run
 from kindbags.writer import shown
 
-from samples import OF_EACH_WORD, chain, first, give, look, name, pair, plus, same, second, small_programs, way, whole
+from plain import drawn_programs, plain_lines, plain_paper
+from samples import ANSWERING, OF_EACH_WORD, chain, give, name, pair, plus, same, second, small_programs, way, whole
 
 CLOSED = [program for program in small_programs(2, [name(0), whole(0)]) if not open_names(program)]
-
-TEXTS = [
-    "7",
-    "(way x (plus 1 2))",
-    "(pair 1 2)",
-    "(pair (pair 1 (way x x)) (pair 3 4))",
-    "(pair (plus 1 2) (pair (plus 3 4) (way x (plus 1 2))))",
-    "(plus 1 (plus 2 3))",
-    "(plus (plus 1 2) (plus 3 4))",
-    "(give (way x (plus x x)) (plus 1 2))",
-    "(give (way x 1) (first 2))",
-    "(first (pair 1 (first 2)))",
-    "(second (pair (first 2) 1))",
-    "(first (second (pair 1 (pair 2 3))))",
-    "(look (plus 1 -1) 10 (first 2))",
-    "(look -1 (first 2) 20)",
-    "(look 5 (first 2) (pair 1 (plus 2 3)))",
-    "(give (give (way x (way y (pair y x))) 1) (plus 2 3))",
-    "(give (way x (way y x)) (way z z))",
-    "(give (way f (give f (give f 1))) (way x (plus x x)))",
-    "(give (way f (pair (give f 1) (give f (way y f)))) (way x (pair x (way z x))))",
-    "(give (way p (plus (first p) (second p))) (pair (plus 1 2) (plus 3 4)))",
-    "(give (give (way f (give f f)) (way f (way n (look n 0 (plus n (give (give f f) (plus n -1))))))) 5)",
-    "(pair (give (way x (pair x x)) (give (way x (pair x x)) 1)) (look 0 (way a a) 1))",
-]
 
 STUCK_TEXTS = [
     "(first 1)",
@@ -253,7 +229,7 @@ class MachineTest(unittest.TestCase):
         self.assertEqual(machine.word(), "going")
 
     def test_to_the_same_answer_as_the_run(self):
-        for text in TEXTS:
+        for text in ANSWERING:
             program = read(text)
             word, answer, rules = run(program, 400)
             machine = to_the_end(program)
@@ -269,7 +245,7 @@ class MachineTest(unittest.TestCase):
             self.assertEqual(word, "stuck")
 
     def test_a_step_behind_the_end_changes_nothing(self):
-        for text in TEXTS + STUCK_TEXTS:
+        for text in ANSWERING + STUCK_TEXTS:
             machine = to_the_end(read(text))
             before = (machine.word(), machine.program(), counts(machine))
             for _ in range(3):
@@ -302,12 +278,23 @@ class MachineTest(unittest.TestCase):
         self.assertEqual(to_the_end(deep).word(), "going")
 
     def test_read_back_at_each_step(self):
-        for text in TEXTS + STUCK_TEXTS + [LOOP]:
+        for text in ANSWERING + STUCK_TEXTS + [LOOP]:
             self.beside_the_run(read(text), 300)
 
     def test_read_back_at_each_step_of_small_ones(self):
         for program in CLOSED:
             self.beside_the_run(program, 12)
+
+    def test_read_back_at_each_step_of_drawn_ones(self):
+        for program in drawn_programs(200, 3):
+            self.beside_the_run(program, 300)
+
+    def test_counts_read_off_the_paper(self):
+        for program in drawn_programs(150, 4) + [read(text) for text in ANSWERING]:
+            words = [line[0] for path, line in plain_lines(plain_paper(program))]
+            steps = len(words) + words.count("plus") + words.count("both") - 1
+            rules = sum(word in ("give", "first", "second", "plus", "look") for word in words)
+            self.assertEqual(counts(to_the_end(program)), (steps, rules, words.count("give"), words.count("name")))
 
     def beside_the_run(self, program, most):
         machine = Machine(program)
@@ -328,7 +315,7 @@ class MachineTest(unittest.TestCase):
             self.assertEqual(machine.word(), "answer" if is_answer(now) else "stuck")
 
     def test_beside_a_plain_machine(self):
-        programs = CLOSED + [read(text) for text in TEXTS + STUCK_TEXTS + [LOOP]]
+        programs = CLOSED + [read(text) for text in ANSWERING + STUCK_TEXTS + [LOOP]]
         for program in programs:
             machine, plain = Machine(program), PlainMachine(program)
             for _ in range(60):
@@ -340,7 +327,7 @@ class MachineTest(unittest.TestCase):
                     break
 
     def test_in_turn_beside_one_another(self):
-        programs = [read(text) for text in TEXTS]
+        programs = [read(text) for text in ANSWERING]
         alone = [to_the_end(program) for program in programs]
         beside = [Machine(program) for program in programs] + [Machine(program) for program in programs]
         going = True
@@ -351,7 +338,7 @@ class MachineTest(unittest.TestCase):
                              (other.word(), other.program(), counts(other)))
 
     def test_asking_changes_nothing(self):
-        for text in TEXTS + STUCK_TEXTS:
+        for text in ANSWERING + STUCK_TEXTS:
             asked, other = Machine(read(text)), Machine(read(text))
             while other.step():
                 for _ in range(2):
@@ -371,7 +358,7 @@ class MachineTest(unittest.TestCase):
             self.assertEqual(counts(to_the_end(read(text))), count, text)
 
     def test_kinds(self):
-        machine = to_the_end(read(TEXTS[-1]))
+        machine = to_the_end(read(ANSWERING[-1]))
         self.assertIs(type(machine.word()), str)
         self.assertIs(type(machine.program()), tuple)
         for number in counts(machine):

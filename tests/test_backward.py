@@ -1,0 +1,202 @@
+import unittest
+
+from kindbags.backward import backward
+from kindbags.checker import looked, stands
+from kindbags.errors import BagError, NoRule
+from kindbags.kinds import answer_kind
+from kindbags.names import open_names
+from kindbags.papers import lines, marks
+from kindbags.papertexts import in_order, read_paper, show_paper
+from kindbags.places import at_place, places
+from kindbags.reader import read
+from kindbags.rules import behind, can_go
+from kindbags.running import run
+
+from plain import answers_paper, drawn_programs, plain_backward, plain_in_order, plain_looked, plain_paper, plain_run
+from samples import ANSWERING, first, give, look, name, num, pair, plus, same, second, small_programs, to, way, whole
+
+DOT, TILDE = ("whole",), ("some",)
+ONE, TWO, THREE = num(1), num(2), num(3)
+
+# A program, the place of a rule, a paper of the program behind it, and the paper of the program itself.
+BACKWARD = [
+    (first(pair(whole(1), whole(2))), (), ".", "(first (left .))"),
+    (second(pair(whole(1), whole(2))), (), ".", "(second (right .))"),
+    (plus(whole(1), whole(2)), (), ".", "(plus . .)"),
+    (look(whole(0), whole(1), whole(2)), (), ".", "(look . .)"),
+    (look(whole(7), whole(1), way(name(0))), (), "~", "(look . ~)"),
+    (look(whole(7), whole(1), way(name(0))), (), "(way #1)", "(look . (way #1))"),
+    (first(pair(name(0), name(1))), (), "#(1,)", "(first (left #(1,)))"),
+    # What is given is met not at all, once, more often.
+    (give(way(whole(5)), whole(2)), (), ".", "(give (way .))"),
+    (give(way(way(name(1))), whole(2)), (), "~", "(give (way ~))"),
+    (give(way(look(whole(0), whole(1), name(0))), whole(2)), (), "(look . .)", "(give (way (look . .)))"),
+    (give(way(name(0)), whole(3)), (), ".", "(give (way #3) .)"),
+    (give(way(name(0)), way(name(0))), (), "~", "(give (way #~) ~)"),
+    (give(way(name(0)), way(name(0))), (), "(way #1)", "(give (way #[1:1]) (way #1))"),
+    (give(way(name(0)), name(4)), (), "#(1,)", "(give (way #(1,)) #(1,))"),
+    (give(way(name(1)), whole(3)), (), "#7", "(give (way #7))"),
+    (give(way(pair(name(0), name(1))), name(0)), (), "(both #1 #2)", "(give (way (both #1 #2)) #1)"),
+    (give(way(plus(name(0), name(0))), whole(3)), (), "(plus . .)", "(give (way (plus #3 #3)) . .)"),
+    (give(way(plus(name(0), name(0))), plus(whole(1), whole(2))), (), "(plus (plus . .) (plus . .))",
+     "(give (way (plus #3 #3)) (plus . .) (plus . .))"),
+    (give(way(pair(name(0), pair(name(0), name(0)))), way(name(0))), (), "(both ~ (both ~ ~))",
+     "(give (way (both #~ (both #~ #~))) ~ ~ ~)"),
+    (give(way(give(name(0), give(name(0), whole(1)))), way(name(0))), (), "(give (way #1) (give (way #1) .))",
+     "(give (way (give #[1:1] (give #[1:1] .))) (way #1) (way #1))"),
+    # Put in order: what is taken out last stands first.
+    (give(way(plus(look(name(0), whole(1), whole(2)), name(0))), name(0)), (), "(plus (look #5 .) #-5)",
+     "(give (way (plus (look #5 .) #-5)) #-5 #5)"),
+    # What is given, put in under ways.
+    (give(way(way(name(1))), whole(3)), (), "(way .)", "(give (way (way #3)) .)"),
+    (give(way(way(pair(name(1), name(0)))), name(0)), (), "(way (both #1 #2))", "(give (way (way (both #1 #2))) #1)"),
+    (give(way(way(way(plus(name(2), name(1))))), plus(name(0), whole(1))), (), "(way (way (plus (plus #1 .) #4)))",
+     "(give (way (way (way (plus #2 #4)))) (plus #1 .))"),
+    (give(way(give(way(plus(name(0), name(1))), name(0))), whole(3)), (), "(give (way (plus #3 .)) .)",
+     "(give (way (give (way (plus #3 #3)) #3)) . .)"),
+    # Within others.
+    (pair(plus(whole(1), whole(2)), whole(4)), (0,), "(both . .)", "(both (plus . .) .)"),
+    (pair(whole(4), plus(whole(1), whole(2))), (1,), "(both . .)", "(both . (plus . .))"),
+    (way(first(pair(name(0), name(0)))), (0,), "(way #1)", "(way (first (left #1)))"),
+    (way(way(give(way(plus(name(0), name(1))), name(1)))), (0, 0), "(way (way (plus #1 #2)))",
+     "(way (way (give (way (plus #1 #2)) #1)))"),
+    (look(whole(0), plus(whole(1), whole(2)), whole(9)), (1,), "(look . .)", "(look . (plus . .))"),
+    (look(whole(3), whole(9), plus(whole(1), whole(2))), (2,), "(look . .)", "(look . (plus . .))"),
+    # Several lines at the place.
+    (give(way(plus(name(0), name(0))), plus(whole(1), whole(2))), (1,), "(give (way (plus #3 #3)) . .)",
+     "(give (way (plus #3 #3)) (plus . .) (plus . .))"),
+    (give(name(0), give(way(name(0)), name(1))), (1,), "(give #[1 2 ~:3] #~ #1 #2)",
+     "(give #[1 2 ~:3] (give (way #1) #1) (give (way #2) #2) (give (way #~) #~))"),
+    (give(name(0), first(pair(name(1), whole(1)))), (1,), "(give #[1 2:3] #2 #1)",
+     "(give #[1 2:3] (first (left #1)) (first (left #2)))"),
+    # No line at the place: the paper, put in order.
+    (pair(plus(whole(1), whole(2)), whole(4)), (0,), "(right .)", "(right .)"),
+    (way(plus(whole(1), whole(2))), (0,), "~", "~"),
+    (give(way(whole(1)), plus(whole(1), whole(2))), (1,), "(give (way .))", "(give (way .))"),
+    (look(whole(0), whole(9), plus(whole(1), whole(2))), (2,), "(look . .)", "(look . .)"),
+    (look(whole(1), give(way(name(0)), whole(1)), whole(9)), (1,), "(look . .)", "(look . .)"),
+    (pair(give(name(0), name(1)), plus(whole(1), whole(2))), (1,), "(left (give #[1 1 2:3] #2 #1 #1))",
+     "(left (give #[1 1 2:3] #1 #1 #2))"),
+]
+
+
+def rule_places(program):
+    return [place for place in places(program) if can_go(program, place)]
+
+
+class BackwardTest(unittest.TestCase):
+    def hold(self, program, place, paper):
+        """What is told of backward holds; the paper that it tells."""
+        later = behind(program, place)
+        told = backward(program, place, paper)
+        self.assertEqual(looked(program, told), looked(later, paper))
+        self.assertEqual(plain_looked(program, told)[:2], looked(later, paper))
+        self.assertEqual(told, plain_in_order(told))
+        self.assertEqual(marks(told), marks(paper) + stands(later, paper).count(place))
+        self.assertEqual(stands(program, told).count(place), stands(later, paper).count(place))
+        self.assertEqual(told, plain_backward(program, place, later, paper))
+        return told
+
+    def test_each_rule(self):
+        for program, place, paper, ahead in BACKWARD:
+            self.assertEqual(show_paper(backward(program, place, read_paper(paper))), ahead, program)
+            self.hold(program, place, read_paper(paper))
+
+    def test_along_runs(self):
+        for text in ANSWERING:
+            programs, ruled = plain_run(read(text))
+            paper = answers_paper(programs[-1])
+            for k in range(len(ruled) - 1, -1, -1):
+                paper = self.hold(programs[k], ruled[k], paper)
+                self.assertEqual(marks(paper), len(ruled) - k)
+            self.assertEqual(looked(programs[0], paper), (answer_kind(programs[-1]), {}))
+
+    def test_at_any_place_where_a_rule_can_go(self):
+        # There is no other paper, so each way back comes to the same.
+        count = 0
+        for text in ANSWERING:
+            for program in plain_run(read(text))[0][:12]:
+                count += self.at_each_place(program)
+        self.assertGreater(count, 100)
+
+    def test_small_ones(self):
+        count = 0
+        for program in small_programs(2, [name(0), whole(0)]):
+            if not open_names(program) and run(program, 30)[0] == "answer":
+                count += self.at_each_place(program)
+        self.assertGreater(count, 50)
+
+    def test_drawn_ones(self):
+        self.assertGreater(sum([self.at_each_place(program) for program in drawn_programs(300, 7)]), 600)
+
+    def at_each_place(self, program):
+        wanted = plain_paper(program)
+        count = 0
+        for place in rule_places(program):
+            later = behind(program, place)
+            if run(later, 400)[0] == "answer":
+                self.assertEqual(self.hold(program, place, plain_paper(later)), wanted)
+                count += 1
+        return count
+
+    def test_parts_with_open_names(self):
+        for text in ANSWERING:
+            program = read(text)
+            for place in rule_places(program):
+                later = behind(program, place)
+                if run(later, 400)[0] != "answer":
+                    continue
+                paper = plain_paper(later)
+                stood = stands(later, paper)
+                for k in range(len(place)):
+                    parts = [line for (path, line), at in zip(lines(paper), stood) if at == place[:k]]
+                    for part in parts:
+                        self.hold(at_place(program, place[:k]), place[k:], part)
+
+    def test_no_rule(self):
+        for program, place in ((whole(1), ()), (name(0), ()), (way(name(0)), ()), (pair(whole(1), whole(2)), ()),
+                               (give(whole(1), whole(2)), ()), (first(whole(1)), ()), (plus(whole(1), way(name(0))), ()),
+                               (look(way(name(0)), whole(1), whole(2)), ()), (pair(plus(whole(1), whole(2)), whole(1)), (1,)),
+                               # Places that aren't there.
+                               (whole(1), (0,)), (plus(whole(1), whole(2)), (2,)), (plus(whole(1), whole(2)), (-1,)),
+                               (plus(whole(1), whole(2)), (0, 0)), (pair(plus(whole(1), whole(2)), whole(1)), (-2,)),
+                               (plus(whole(1), whole(2)), (5, 5))):
+            # Whatever the paper.
+            for paper in (DOT, TILDE, ("plus", DOT, DOT), ("name", ONE), ("both", DOT, DOT), ("first", TILDE)):
+                with self.assertRaises(NoRule):
+                    backward(program, place, paper)
+        with self.assertRaises(BagError):
+            backward(whole(1), (), DOT)
+
+    def test_what_is_handed_in_stays(self):
+        program = give(name(0), give(way(name(0)), name(1)))
+        paper = ("give", ("name", to([ONE, TWO], THREE)), (("name", TWO), ("name", ONE)))
+        for _ in range(2):
+            told = backward(program, (1,), paper)
+            self.assertEqual(show_paper(told), "(give #[1 2:3] (give (way #1) #1) (give (way #2) #2))")
+            self.assertEqual(paper, ("give", ("name", ("way", (("is", 1), ("is", 2)), ("is", 3))),
+                                     (("name", ("is", 2)), ("name", ("is", 1)))))
+            self.assertEqual(program, ("give", ("name", 0), ("give", ("way", ("name", 0)), ("name", 1))))
+            self.assertIs(type(told), tuple)
+
+    def test_what_was_told_whatever_its_size(self):
+        later, paper = whole(3), DOT
+        program, ahead = plus(whole(1), whole(2)), ("plus", DOT, DOT)
+        for _ in range(1500):
+            later, paper = first(pair(later, whole(0))), ("first", ("left", paper))
+            program, ahead = first(pair(program, whole(0))), ("first", ("left", ahead))
+        self.assertTrue(same(backward(program, (0, 0) * 1500, paper), ahead))
+        self.assertTrue(same(backward(first(pair(later, whole(0))), (), in_order(paper)), ("first", ("left", paper))))
+        told = backward(give(way(plus(name(0), name(0))), later), (), ("plus", paper, paper))
+        self.assertTrue(same(told, ("give", read_paper("(way (plus #3 #3))"), (paper, paper))))
+        ways, deep, kind = name(1501), ("name", ONE), ONE
+        for _ in range(1500):
+            ways, deep, kind = way(ways), ("way", deep), to([], kind)
+        told = backward(give(way(name(0)), ways), (), deep)
+        self.assertTrue(same(told, ("give", ("way", ("name", kind)), (deep,))))
+        told = backward(give(way(ways), whole(9)), (), deep)
+        self.assertTrue(same(told, ("give", ("way", deep), ())))
+
+
+if __name__ == "__main__":
+    unittest.main()
