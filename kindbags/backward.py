@@ -1,6 +1,6 @@
 """Backward: of a paper of the program behind a rule a paper of the program ahead of it."""
 
-from kindbags.checker import looked_through
+from kindbags.checker import looked_through, spot_of
 from kindbags.names import ways_below
 from kindbags.papers import with_inner_papers
 from kindbags.papertexts import in_order
@@ -40,14 +40,6 @@ def paper_ahead(word, line, given):
     if word == "plus":
         return ("plus", ("whole",), ("whole",))
     return ("look", ("whole",), line)
-
-
-def spot_of(spots, place):
-    # None where no line stands at the place.
-    spot = 0
-    for k in place:
-        spot = spots.get((spot, k))
-    return spot
 
 
 def spots_put_in(spots, program, spot):

@@ -45,6 +45,10 @@ def inner_kinds(kind):
     return kind[1:]
 
 
+def is_bag(thing):
+    return isinstance(thing, tuple) and all([is_kind(one) for one in thing]) and is_sorted(thing)
+
+
 def is_sorted(kinds):
     if len(kinds) < 2:
         return True

@@ -3,7 +3,7 @@
 from kindbags.answers import is_answer
 from kindbags.programs import inner
 from kindbags.rules import behind, has_rule
-from kindbags.walks import path_of
+from kindbags.walks import is_over, path_of
 
 MOST_PARTS = 3000
 MOST_DEEP = 100
@@ -56,30 +56,27 @@ def inner_in_use(program):
 
 
 def run(program, most):
-    now = program
-    rules = 0
-    place = next_place(now)
+    gone = run_through(program, most)
+    return (gone[0], gone[1][-1], len(gone[2]))
+
+
+def run_through(program, most):
+    # As run, with all that it came by: a tuple (word, programs, places), lists, one program more than places.
+    programs = [program]
+    gone = []
+    place = next_place(program)
     while place is not None:
-        if rules >= most:
-            return ("more", now, rules)
-        later = behind(now, place)
+        if len(gone) >= most:
+            return ("more", programs, gone)
+        later = behind(programs[-1], place)
         if is_great(later):
-            return ("great", now, rules)
-        now = later
-        rules += 1
-        place = next_place(now)
-    word = "answer" if is_answer(now) else "stuck"
-    return (word, now, rules)
+            return ("great", programs, gone)
+        programs.append(later)
+        gone.append(place)
+        place = next_place(later)
+    word = "answer" if is_answer(programs[-1]) else "stuck"
+    return (word, programs, gone)
 
 
 def is_great(program):
-    # Looks at no more parts than it must: one rule may multiply a program's parts by thousands.
-    many = 0
-    pending = [(program, 0)]
-    while pending:
-        entry = pending.pop()
-        many += 1
-        if many > MOST_PARTS or entry[1] > MOST_DEEP:
-            return True
-        pending.extend([(one, entry[1] + 1) for one in inner(entry[0])])
-    return False
+    return is_over(program, inner, MOST_PARTS, MOST_DEEP)

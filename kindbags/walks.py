@@ -41,6 +41,20 @@ def folded(thing, inners_of, made_of):
     return made.pop()
 
 
+def is_over(thing, inners_of, most, deepest):
+    # Whether more than so many stand in it, itself one, or it nests deeper. Looks at no more than it must: one
+    # rule may multiply a program's parts by thousands.
+    many = 0
+    pending = [(thing, 0)]
+    while pending:
+        entry = pending.pop()
+        many += 1
+        if many > most or entry[1] > deepest:
+            return True
+        pending.extend([(one, entry[1] + 1) for one in inners_of(entry[0])])
+    return False
+
+
 def path_of(trail):
     # A trail (trail of what is around, number), None at the outermost, stands for a path until it is asked
     # for, as the paths of all that is around something deep would be long.

@@ -2,7 +2,8 @@
 
 import random
 
-from kindbags.rules import behind
+from kindbags.places import places
+from kindbags.rules import behind, can_go
 from kindbags.running import next_place, run
 
 
@@ -10,16 +11,22 @@ class Wrong(Exception):
     """No paper: the path of the line that is found wrong first."""
 
 
-def plain_looked(program, paper, path=()):
-    """The kind, the book and the places of the lines of a paper, looked at as the document lists its forms."""
+def plain_looked(program, paper, path=(), hole=None):
+    """The kind, the book and the places of the lines of a paper, looked at as the document lists its forms.
+
+    Where a place hole is told, holes stand there."""
     def ask(fits):
         if not fits:
             raise Wrong(path)
 
     def inside(k, number, one):
-        kind, book, stood = plain_looked(program[1 + number], one, path + (k,))
+        below = hole[1:] if hole and hole[0] == number else None
+        kind, book, stood = plain_looked(program[1 + number], one, path + (k,), below)
         return kind, book, [(number,) + place for place in stood]
 
+    if hole == ():
+        ask(plain_hole(paper))
+        return paper[1], dict(paper[2]), [()]
     words = {"way": ("some", "way"), "pair": ("left", "right", "both")}.get(program[0], (program[0],))
     ask(type(paper) is tuple and len(paper) > 0 and any(paper[0] == word for word in words))
     word = paper[0]
@@ -69,6 +76,21 @@ def plain_together(kind, told):
         for number, bag in one[1].items():
             book[number] = tuple(sorted(book.get(number, ()) + bag))
     return kind, book, [()] + [place for one in told for place in one[2]]
+
+
+def plain_hole(thing):
+    """Whether it is a hole, with a kind and a row of pairs of numbers and bags with things."""
+    if type(thing) is not tuple or len(thing) != 3 or thing[0] != "hole" or not plain_kind(thing[1]):
+        return False
+    if type(thing[2]) is not tuple or not all(type(one) is tuple and len(one) == 2 for one in thing[2]):
+        return False
+    numbers = [number for number, bag in thing[2]]
+    if not all(type(number) is int and number >= 0 for number in numbers):
+        return False
+    bags = [bag for number, bag in thing[2]]
+    return (all(a < b for a, b in zip(numbers, numbers[1:]))
+            and all(type(bag) is tuple and len(bag) > 0 and all(plain_kind(k) for k in bag) for bag in bags)
+            and all(list(bag) == sorted(bag) for bag in bags))
 
 
 def plain_kind(thing):
@@ -127,8 +149,7 @@ def plain_backward(program, place, later, paper):
 
     stood = at(program, place)
     put = put_places(stood[1][1], 0, place) if stood[0] == "give" else []
-    places = plain_looked(later, paper)[2]
-    at_path = {path: where for (path, line), where in zip(plain_lines(paper), places)}
+    at_path = {path: where for (path, line), where in zip(plain_lines(paper), plain_looked(later, paper)[2])}
 
     def taken_out(line, path, given):
         if at_path[path] in put:
@@ -149,6 +170,78 @@ def plain_backward(program, place, later, paper):
     return plain_in_order(went(paper, ()))
 
 
+def plain_forward(program, place, paper):
+    """Forward as the document says it, of a paper of the program."""
+    def at(one, where):
+        for k in where:
+            one = one[1 + k]
+        return one
+
+    at_path = {path: where for (path, line), where in zip(plain_lines(paper), plain_looked(program, paper)[2])}
+
+    def name_lines(line, path):
+        """The paths of the lines of the way's own name within the way's P, in order."""
+        where = at_path[path]
+        ways = sum(at(program, where[:k])[0] == "way" for k in range(len(place) + 2, len(where)))
+        found = [path] if line[0] == "name" and at(program, where)[1] == ways else []
+        for k, one in enumerate(plain_inners(line)):
+            found += name_lines(one, path + (k,))
+        return found
+
+    def went(line, path, instead):
+        if path in instead:
+            return instead[path]
+        if at_path[path] != place:
+            return rebuilt(line, [went(one, path + (k,), instead) for k, one in enumerate(plain_inners(line))])
+        if line[0] in ("first", "second"):
+            return line[1][1]
+        if line[0] == "plus":
+            return ("whole",)
+        if line[0] == "look":
+            return line[2]
+        rest = [(plain_looked(program_given, one)[0], one) for one in line[2]]
+        for found in name_lines(line[1][1], path + (0, 0)):
+            kind = dict(plain_lines(paper))[found][1]
+            k = [one[0] for one in rest].index(kind)
+            instead[found] = rest.pop(k)[1]
+        return went(line[1][1], path + (0, 0), instead)
+
+    stood = at(program, place)
+    program_given = stood[2] if stood[0] == "give" else None
+    return plain_in_order(went(paper, (), {}))
+
+
+def plain_parted(program, paper, place):
+    """The paper parted at the place, each line's own place told by where it stands."""
+    stood = plain_looked(program, paper)[2]
+    at_path = {path: where for (path, line), where in zip(plain_lines(paper), stood)}
+    taken = []
+
+    def went(line, path):
+        if at_path[path] == place:
+            part = program
+            for k in place:
+                part = part[1 + k]
+            kind, book, _ = plain_looked(part, line)
+            taken.append(line)
+            return ("hole", kind, tuple(sorted(book.items())))
+        return rebuilt(line, [went(one, path + (k,)) for k, one in enumerate(plain_inners(line))])
+
+    return went(paper, ()), taken
+
+
+def shuffled(paper, draw):
+    """The paper with the papers of each give in an order drawn by chance."""
+    if paper[0] == "name":
+        return paper
+    inners = [shuffled(one, draw) for one in plain_inners(paper)]
+    if paper[0] == "give":
+        given = inners[1:]
+        draw.shuffle(given)
+        inners[1:] = given
+    return rebuilt(paper, inners)
+
+
 def rebuilt(paper, inners):
     if paper[0] == "name":
         return paper
@@ -165,22 +258,26 @@ def answers_paper(answer):
 
 def plain_run(program):
     """The program, those to which its run comes, and the places of the rules."""
-    programs, places = [program], []
+    programs, ruled = [program], []
     place = next_place(program)
     while place is not None:
-        places.append(place)
+        ruled.append(place)
         programs.append(behind(programs[-1], place))
         place = next_place(programs[-1])
-    return programs, places
+    return programs, ruled
 
 
 def plain_paper(program):
     """The paper of a closed program that comes to an answer, written from the run, last rule first."""
-    programs, places = plain_run(program)
+    programs, ruled = plain_run(program)
     paper = answers_paper(programs[-1])
-    for k in range(len(places) - 1, -1, -1):
-        paper = plain_backward(programs[k], places[k], programs[k + 1], paper)
+    for k in range(len(ruled) - 1, -1, -1):
+        paper = plain_backward(programs[k], ruled[k], programs[k + 1], paper)
     return paper
+
+
+def plain_rule_places(program):
+    return [place for place in places(program) if can_go(program, place)]
 
 
 def drawn_programs(many, seed):

@@ -181,3 +181,102 @@ def small_kinds(depth):
             bags = itertools.combinations_with_replacement(sorted(inner), many)
             found += [("way", bag, k) for bag in bags for k in inner]
     return found
+
+
+# A program, the place of a rule, the text of a paper of the program behind it, and, put in order, that of the paper
+# of the program itself which it is taken back to.
+RULED = [
+    (first(pair(whole(1), whole(2))), (), ".", "(first (left .))"),
+    (second(pair(whole(1), whole(2))), (), ".", "(second (right .))"),
+    (plus(whole(1), whole(2)), (), ".", "(plus . .)"),
+    (look(whole(0), whole(1), whole(2)), (), ".", "(look . .)"),
+    (look(whole(7), whole(1), way(name(0))), (), "~", "(look . ~)"),
+    (look(whole(7), whole(1), way(name(0))), (), "(way #1)", "(look . (way #1))"),
+    (first(pair(name(0), name(1))), (), "#(1,)", "(first (left #(1,)))"),
+    # What is given is met not at all, once, more often.
+    (give(way(whole(5)), whole(2)), (), ".", "(give (way .))"),
+    (give(way(way(name(1))), whole(2)), (), "~", "(give (way ~))"),
+    (give(way(look(whole(0), whole(1), name(0))), whole(2)), (), "(look . .)", "(give (way (look . .)))"),
+    (give(way(name(0)), whole(3)), (), ".", "(give (way #3) .)"),
+    (give(way(name(0)), way(name(0))), (), "~", "(give (way #~) ~)"),
+    (give(way(name(0)), way(name(0))), (), "(way #1)", "(give (way #[1:1]) (way #1))"),
+    (give(way(name(0)), name(4)), (), "#(1,)", "(give (way #(1,)) #(1,))"),
+    (give(way(name(1)), whole(3)), (), "#7", "(give (way #7))"),
+    (give(way(pair(name(0), name(1))), name(0)), (), "(both #1 #2)", "(give (way (both #1 #2)) #1)"),
+    (give(way(plus(name(0), name(0))), whole(3)), (), "(plus . .)", "(give (way (plus #3 #3)) . .)"),
+    (give(way(plus(name(0), name(0))), plus(whole(1), whole(2))), (), "(plus (plus . .) (plus . .))",
+     "(give (way (plus #3 #3)) (plus . .) (plus . .))"),
+    (give(way(pair(name(0), pair(name(0), name(0)))), way(name(0))), (), "(both ~ (both ~ ~))",
+     "(give (way (both #~ (both #~ #~))) ~ ~ ~)"),
+    (give(way(give(name(0), give(name(0), whole(1)))), way(name(0))), (), "(give (way #1) (give (way #1) .))",
+     "(give (way (give #[1:1] (give #[1:1] .))) (way #1) (way #1))"),
+    # Put in order: what is taken out last stands first.
+    (give(way(plus(look(name(0), whole(1), whole(2)), name(0))), name(0)), (), "(plus (look #5 .) #-5)",
+     "(give (way (plus (look #5 .) #-5)) #-5 #5)"),
+    # What is given, put in under ways.
+    (give(way(way(name(1))), whole(3)), (), "(way .)", "(give (way (way #3)) .)"),
+    (give(way(way(pair(name(1), name(0)))), name(0)), (), "(way (both #1 #2))", "(give (way (way (both #1 #2))) #1)"),
+    (give(way(way(way(plus(name(2), name(1))))), plus(name(0), whole(1))), (), "(way (way (plus (plus #1 .) #4)))",
+     "(give (way (way (way (plus #2 #4)))) (plus #1 .))"),
+    (give(way(give(way(plus(name(0), name(1))), name(0))), whole(3)), (), "(give (way (plus #3 .)) .)",
+     "(give (way (give (way (plus #3 #3)) #3)) . .)"),
+    # Within others.
+    (pair(plus(whole(1), whole(2)), whole(4)), (0,), "(both . .)", "(both (plus . .) .)"),
+    (pair(whole(4), plus(whole(1), whole(2))), (1,), "(both . .)", "(both . (plus . .))"),
+    (way(first(pair(name(0), name(0)))), (0,), "(way #1)", "(way (first (left #1)))"),
+    (way(way(give(way(plus(name(0), name(1))), name(1)))), (0, 0), "(way (way (plus #1 #2)))",
+     "(way (way (give (way (plus #1 #2)) #1)))"),
+    (look(whole(0), plus(whole(1), whole(2)), whole(9)), (1,), "(look . .)", "(look . (plus . .))"),
+    (look(whole(3), whole(9), plus(whole(1), whole(2))), (2,), "(look . .)", "(look . (plus . .))"),
+    # Several lines at the place.
+    (give(way(plus(name(0), name(0))), plus(whole(1), whole(2))), (1,), "(give (way (plus #3 #3)) . .)",
+     "(give (way (plus #3 #3)) (plus . .) (plus . .))"),
+    (give(name(0), give(way(name(0)), name(1))), (1,), "(give #[1 2 ~:3] #~ #1 #2)",
+     "(give #[1 2 ~:3] (give (way #1) #1) (give (way #2) #2) (give (way #~) #~))"),
+    (give(name(0), first(pair(name(1), whole(1)))), (1,), "(give #[1 2:3] #2 #1)",
+     "(give #[1 2:3] (first (left #1)) (first (left #2)))"),
+    # No line at the place: the paper, put in order.
+    (pair(plus(whole(1), whole(2)), whole(4)), (0,), "(right .)", "(right .)"),
+    (way(plus(whole(1), whole(2))), (0,), "~", "~"),
+    (give(way(whole(1)), plus(whole(1), whole(2))), (1,), "(give (way .))", "(give (way .))"),
+    (look(whole(0), whole(9), plus(whole(1), whole(2))), (2,), "(look . .)", "(look . .)"),
+    (look(whole(1), give(way(name(0)), whole(1)), whole(9)), (1,), "(look . .)", "(look . .)"),
+    (pair(give(name(0), name(1)), plus(whole(1), whole(2))), (1,), "(left (give #[1 1 2:3] #2 #1 #1))",
+     "(left (give #[1 1 2:3] #1 #1 #2))"),
+]
+
+
+# Texts of closed programs that come to no answer, and what is told of them within 400 rules.
+NO_ANSWER = [
+    ("(first 1)", "stuck"),
+    ("(plus 1 (way x x))", "stuck"),
+    ("(give 1 2)", "stuck"),
+    ("(pair 1 (second (way x x)))", "stuck"),
+    ("(look (pair 1 2) 1 2)", "stuck"),
+    ("(give (way x (first x)) (way y y))", "stuck"),
+    ("(give (way x (give x x)) (way x (give x x)))", "more"),
+    ("(pair (plus 1 2) (give (way x (give x x)) (way x (give x x))))", "more"),
+    ("(give (way x (give x x)) (way x (plus 1 (give x x))))", "great"),
+    ("(give (way x (give x x)) (way x (pair (give x x) 1)))", "great"),
+    ("(give (way x (give x x)) (way x (pair (give x x) (way y (pair (pair (pair (pair 1 2) (pair 3 4)) (pair (pair 5 6)"
+     " (pair 7 8))) (pair (pair (pair 1 2) (pair 3 4)) (pair (pair 5 6) (pair 7 8))))))))", "great"),
+]
+
+
+def sum_of(things):
+    """The sum of these things, its pluses as flat as they can be."""
+    if len(things) == 1:
+        return things[0]
+    half = len(things) // 2
+    return plus(sum_of(things[:half]), sum_of(things[half:]))
+
+
+def many_lines(times, names):
+    """A program whose paper has many lines: in gives within one another something is met so many times each, the
+    innermost being a whole that is come to by so many names."""
+    tree = name(0)
+    for many in reversed(times):
+        tree = give(way(sum_of([name(0)] * many)), tree)
+    for k in range(names):
+        tree = give(way(tree), whole(1) if k == names - 1 else name(0))
+    return tree

@@ -7,81 +7,17 @@ from kindbags.kinds import answer_kind
 from kindbags.names import open_names
 from kindbags.papers import lines, marks
 from kindbags.papertexts import in_order, read_paper, show_paper
-from kindbags.places import at_place, places
+from kindbags.places import at_place
 from kindbags.reader import read
-from kindbags.rules import behind, can_go
+from kindbags.rules import behind
 from kindbags.running import run
 
-from plain import answers_paper, drawn_programs, plain_backward, plain_in_order, plain_looked, plain_paper, plain_run
-from samples import ANSWERING, first, give, look, name, num, pair, plus, same, second, small_programs, to, way, whole
+from plain import (answers_paper, drawn_programs, plain_backward, plain_in_order, plain_looked, plain_paper,
+                   plain_rule_places, plain_run)
+from samples import ANSWERING, RULED, first, give, look, name, num, pair, plus, same, second, small_programs, to, way, whole
 
 DOT, TILDE = ("whole",), ("some",)
 ONE, TWO, THREE = num(1), num(2), num(3)
-
-# A program, the place of a rule, a paper of the program behind it, and the paper of the program itself.
-BACKWARD = [
-    (first(pair(whole(1), whole(2))), (), ".", "(first (left .))"),
-    (second(pair(whole(1), whole(2))), (), ".", "(second (right .))"),
-    (plus(whole(1), whole(2)), (), ".", "(plus . .)"),
-    (look(whole(0), whole(1), whole(2)), (), ".", "(look . .)"),
-    (look(whole(7), whole(1), way(name(0))), (), "~", "(look . ~)"),
-    (look(whole(7), whole(1), way(name(0))), (), "(way #1)", "(look . (way #1))"),
-    (first(pair(name(0), name(1))), (), "#(1,)", "(first (left #(1,)))"),
-    # What is given is met not at all, once, more often.
-    (give(way(whole(5)), whole(2)), (), ".", "(give (way .))"),
-    (give(way(way(name(1))), whole(2)), (), "~", "(give (way ~))"),
-    (give(way(look(whole(0), whole(1), name(0))), whole(2)), (), "(look . .)", "(give (way (look . .)))"),
-    (give(way(name(0)), whole(3)), (), ".", "(give (way #3) .)"),
-    (give(way(name(0)), way(name(0))), (), "~", "(give (way #~) ~)"),
-    (give(way(name(0)), way(name(0))), (), "(way #1)", "(give (way #[1:1]) (way #1))"),
-    (give(way(name(0)), name(4)), (), "#(1,)", "(give (way #(1,)) #(1,))"),
-    (give(way(name(1)), whole(3)), (), "#7", "(give (way #7))"),
-    (give(way(pair(name(0), name(1))), name(0)), (), "(both #1 #2)", "(give (way (both #1 #2)) #1)"),
-    (give(way(plus(name(0), name(0))), whole(3)), (), "(plus . .)", "(give (way (plus #3 #3)) . .)"),
-    (give(way(plus(name(0), name(0))), plus(whole(1), whole(2))), (), "(plus (plus . .) (plus . .))",
-     "(give (way (plus #3 #3)) (plus . .) (plus . .))"),
-    (give(way(pair(name(0), pair(name(0), name(0)))), way(name(0))), (), "(both ~ (both ~ ~))",
-     "(give (way (both #~ (both #~ #~))) ~ ~ ~)"),
-    (give(way(give(name(0), give(name(0), whole(1)))), way(name(0))), (), "(give (way #1) (give (way #1) .))",
-     "(give (way (give #[1:1] (give #[1:1] .))) (way #1) (way #1))"),
-    # Put in order: what is taken out last stands first.
-    (give(way(plus(look(name(0), whole(1), whole(2)), name(0))), name(0)), (), "(plus (look #5 .) #-5)",
-     "(give (way (plus (look #5 .) #-5)) #-5 #5)"),
-    # What is given, put in under ways.
-    (give(way(way(name(1))), whole(3)), (), "(way .)", "(give (way (way #3)) .)"),
-    (give(way(way(pair(name(1), name(0)))), name(0)), (), "(way (both #1 #2))", "(give (way (way (both #1 #2))) #1)"),
-    (give(way(way(way(plus(name(2), name(1))))), plus(name(0), whole(1))), (), "(way (way (plus (plus #1 .) #4)))",
-     "(give (way (way (way (plus #2 #4)))) (plus #1 .))"),
-    (give(way(give(way(plus(name(0), name(1))), name(0))), whole(3)), (), "(give (way (plus #3 .)) .)",
-     "(give (way (give (way (plus #3 #3)) #3)) . .)"),
-    # Within others.
-    (pair(plus(whole(1), whole(2)), whole(4)), (0,), "(both . .)", "(both (plus . .) .)"),
-    (pair(whole(4), plus(whole(1), whole(2))), (1,), "(both . .)", "(both . (plus . .))"),
-    (way(first(pair(name(0), name(0)))), (0,), "(way #1)", "(way (first (left #1)))"),
-    (way(way(give(way(plus(name(0), name(1))), name(1)))), (0, 0), "(way (way (plus #1 #2)))",
-     "(way (way (give (way (plus #1 #2)) #1)))"),
-    (look(whole(0), plus(whole(1), whole(2)), whole(9)), (1,), "(look . .)", "(look . (plus . .))"),
-    (look(whole(3), whole(9), plus(whole(1), whole(2))), (2,), "(look . .)", "(look . (plus . .))"),
-    # Several lines at the place.
-    (give(way(plus(name(0), name(0))), plus(whole(1), whole(2))), (1,), "(give (way (plus #3 #3)) . .)",
-     "(give (way (plus #3 #3)) (plus . .) (plus . .))"),
-    (give(name(0), give(way(name(0)), name(1))), (1,), "(give #[1 2 ~:3] #~ #1 #2)",
-     "(give #[1 2 ~:3] (give (way #1) #1) (give (way #2) #2) (give (way #~) #~))"),
-    (give(name(0), first(pair(name(1), whole(1)))), (1,), "(give #[1 2:3] #2 #1)",
-     "(give #[1 2:3] (first (left #1)) (first (left #2)))"),
-    # No line at the place: the paper, put in order.
-    (pair(plus(whole(1), whole(2)), whole(4)), (0,), "(right .)", "(right .)"),
-    (way(plus(whole(1), whole(2))), (0,), "~", "~"),
-    (give(way(whole(1)), plus(whole(1), whole(2))), (1,), "(give (way .))", "(give (way .))"),
-    (look(whole(0), whole(9), plus(whole(1), whole(2))), (2,), "(look . .)", "(look . .)"),
-    (look(whole(1), give(way(name(0)), whole(1)), whole(9)), (1,), "(look . .)", "(look . .)"),
-    (pair(give(name(0), name(1)), plus(whole(1), whole(2))), (1,), "(left (give #[1 1 2:3] #2 #1 #1))",
-     "(left (give #[1 1 2:3] #1 #1 #2))"),
-]
-
-
-def rule_places(program):
-    return [place for place in places(program) if can_go(program, place)]
 
 
 class BackwardTest(unittest.TestCase):
@@ -98,7 +34,7 @@ class BackwardTest(unittest.TestCase):
         return told
 
     def test_each_rule(self):
-        for program, place, paper, ahead in BACKWARD:
+        for program, place, paper, ahead in RULED:
             self.assertEqual(show_paper(backward(program, place, read_paper(paper))), ahead, program)
             self.hold(program, place, read_paper(paper))
 
@@ -132,7 +68,7 @@ class BackwardTest(unittest.TestCase):
     def at_each_place(self, program):
         wanted = plain_paper(program)
         count = 0
-        for place in rule_places(program):
+        for place in plain_rule_places(program):
             later = behind(program, place)
             if run(later, 400)[0] == "answer":
                 self.assertEqual(self.hold(program, place, plain_paper(later)), wanted)
@@ -142,7 +78,7 @@ class BackwardTest(unittest.TestCase):
     def test_parts_with_open_names(self):
         for text in ANSWERING:
             program = read(text)
-            for place in rule_places(program):
+            for place in plain_rule_places(program):
                 later = behind(program, place)
                 if run(later, 400)[0] != "answer":
                     continue
