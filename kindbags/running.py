@@ -10,13 +10,17 @@ MOST_DEEP = 100
 
 
 def next_place(program):
+    use = next_use(program)
+    return None if use is None else use[0] + use[1]
+
+
+def next_use(program):
+    # The next place in two: that of a part in the place of an answer, and the one within it, in use.
     found = first_unanswered(program)
     if found is None:
         return None
     rest = place_in_use(found[0])
-    if rest is None:
-        return None
-    return found[1] + rest
+    return None if rest is None else (found[1], rest)
 
 
 def first_unanswered(program):
@@ -57,25 +61,25 @@ def inner_in_use(program):
 
 def run(program, most):
     gone = run_through(program, most)
-    return (gone[0], gone[1][-1], len(gone[2]))
+    return (gone[0], gone[1], len(gone[2]))
 
 
 def run_through(program, most):
-    # As run, with all that it came by: a tuple (word, programs, places), lists, one program more than places.
-    programs = [program]
-    gone = []
-    place = next_place(program)
-    while place is not None:
-        if len(gone) >= most:
-            return ("more", programs, gone)
-        later = behind(programs[-1], place)
+    # As run, but with a list, for each rule the place of the part in the place of an answer in which it was done.
+    now = program
+    stood_at = []
+    use = next_use(now)
+    while use is not None:
+        if len(stood_at) >= most:
+            return ("more", now, stood_at)
+        later = behind(now, use[0] + use[1])
         if is_great(later):
-            return ("great", programs, gone)
-        programs.append(later)
-        gone.append(place)
-        place = next_place(later)
-    word = "answer" if is_answer(programs[-1]) else "stuck"
-    return (word, programs, gone)
+            return ("great", now, stood_at)
+        now = later
+        stood_at.append(use[0])
+        use = next_use(now)
+    word = "answer" if is_answer(now) else "stuck"
+    return (word, now, stood_at)
 
 
 def is_great(program):

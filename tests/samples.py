@@ -280,3 +280,27 @@ def many_lines(times, names):
     for k in range(names):
         tree = give(way(tree), whole(1) if k == names - 1 else name(0))
     return tree
+
+
+# Programs, and places of them where no rule can go.
+NO_RULES = [
+    (whole(1), ()),
+    (name(0), ()),
+    (way(name(0)), ()),
+    (pair(whole(1), whole(2)), ()),
+    (give(whole(1), whole(2)), ()),
+    (first(whole(1)), ()),
+    (second(way(name(0))), ()),
+    (plus(whole(1), way(name(0))), ()),
+    (plus(way(name(0)), whole(1)), ()),
+    (look(way(name(0)), whole(1), whole(2)), ()),
+    (pair(plus(whole(1), whole(2)), whole(1)), ()),
+    (pair(plus(whole(1), whole(2)), whole(1)), (1,)),
+    # Places that aren't there.
+    (whole(1), (0,)),
+    (plus(whole(1), whole(2)), (2,)),
+    (plus(whole(1), whole(2)), (-1,)),
+    (plus(whole(1), whole(2)), (0, 0)),
+    (pair(plus(whole(1), whole(2)), whole(1)), (-2,)),
+    (plus(whole(1), whole(2)), (5, 5)),
+]

@@ -14,7 +14,7 @@ from kindbags.running import run
 
 from plain import (answers_paper, drawn_programs, plain_backward, plain_in_order, plain_looked, plain_paper,
                    plain_rule_places, plain_run)
-from samples import ANSWERING, RULED, first, give, look, name, num, pair, plus, same, second, small_programs, to, way, whole
+from samples import ANSWERING, NO_RULES, RULED, first, give, name, num, pair, plus, same, small_programs, to, way, whole
 
 DOT, TILDE = ("whole",), ("some",)
 ONE, TWO, THREE = num(1), num(2), num(3)
@@ -90,13 +90,7 @@ class BackwardTest(unittest.TestCase):
                         self.hold(at_place(program, place[:k]), place[k:], part)
 
     def test_no_rule(self):
-        for program, place in ((whole(1), ()), (name(0), ()), (way(name(0)), ()), (pair(whole(1), whole(2)), ()),
-                               (give(whole(1), whole(2)), ()), (first(whole(1)), ()), (plus(whole(1), way(name(0))), ()),
-                               (look(way(name(0)), whole(1), whole(2)), ()), (pair(plus(whole(1), whole(2)), whole(1)), (1,)),
-                               # Places that aren't there.
-                               (whole(1), (0,)), (plus(whole(1), whole(2)), (2,)), (plus(whole(1), whole(2)), (-1,)),
-                               (plus(whole(1), whole(2)), (0, 0)), (pair(plus(whole(1), whole(2)), whole(1)), (-2,)),
-                               (plus(whole(1), whole(2)), (5, 5))):
+        for program, place in NO_RULES:
             # Whatever the paper.
             for paper in (DOT, TILDE, ("plus", DOT, DOT), ("name", ONE), ("both", DOT, DOT), ("first", TILDE)):
                 with self.assertRaises(NoRule):

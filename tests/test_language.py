@@ -146,6 +146,9 @@ class LanguageTest(unittest.TestCase):
             if isinstance(node, ast.Constant):
                 self.assertIsInstance(node.value, (int, str, type(None)), at)
                 self.assertNotIn("%", str(node.value), at)
+            if isinstance(node, ast.FormattedValue):
+                self.assertIsInstance(node.value, ast.Name, at)
+                self.assertIsNone(node.format_spec, at)
             if isinstance(node, ast.Compare):
                 for sign, other in zip(node.ops, node.comparators):
                     if isinstance(sign, (ast.Is, ast.IsNot)):

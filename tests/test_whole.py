@@ -6,15 +6,23 @@ import unittest
 
 from kindbags.answers import size
 from kindbags.checker import looked
+from kindbags.counts import look_ups_of, slips_of, steps_of
 from kindbags.errors import NoRoom
-from kindbags.kinds import kind_size, of_answer
+from kindbags.forward import forward
+from kindbags.joined import around_looked, around_marks, joined
+from kindbags.kinds import answer_kind, kind_size, of_answer
+from kindbags.machine import Machine
 from kindbags.names import names_in, open_names
 from kindbags.papers import marks
 from kindbags.papertexts import in_order
+from kindbags.parted import parted
+from kindbags.places import at_place, places, replaced
 from kindbags.played import played
 from kindbags.programs import parts
 from kindbags.reader import read
+from kindbags.rules import behind, can_go
 from kindbags.running import run
+from kindbags.turning import met, rule_places
 from kindbags.written import paper_of
 
 from plain import drawn_programs, plain_lines, shuffled
@@ -131,6 +139,60 @@ class OnePaperTest(unittest.TestCase):
             self.assertEqual((kind_size(kind), marks(paper), book), (size(came_to), rules, {}))
             told = played(program, shuffled(paper, draw))
             self.assertEqual((told[-1][0], len(told) - 1), (came_to, rules))
+
+
+class OneAndTheSameTest(unittest.TestCase):
+    def test_run_machine_paper_parts_and_rules_ahead(self):
+        count = 0
+        for program in [read(text) for text in ANSWERING] + drawn_programs(80, 33):
+            try:
+                paper = paper_of(program, 400)
+            except NoRoom:
+                continue
+            count += 1
+            word, came_to, rules = run(program, 400)
+            self.by_the_machine(program, paper, came_to, rules)
+            self.by_its_parts(program, paper)
+            self.by_rules_ahead(program, answer_kind(came_to), rules)
+        self.assertGreater(count, 80)
+
+    def by_the_machine(self, program, paper, came_to, rules):
+        machine = Machine(program)
+        while machine.step():
+            pass
+        self.assertEqual((machine.word(), machine.program(), machine.rules()), ("answer", came_to, rules))
+        self.assertEqual((steps_of(paper), slips_of(paper), look_ups_of(paper)),
+                         (machine.steps(), machine.slips(), machine.look_ups()))
+
+    def by_its_parts(self, program, paper):
+        for place in places(program):
+            around, papers = parted(program, paper, place)
+            part = at_place(program, place)
+            self.assertEqual(len(papers), met(program, place, 400))
+            self.assertEqual(around_marks(around) + sum([marks(one) for one in papers]), marks(paper))
+            self.assertEqual(joined(around, papers), paper)
+            # Another part of the same kinds and books: one whose rule is done ahead, and one with a rule more.
+            if can_go(part, ()):
+                others = [forward(part, (), one) for one in papers]
+                self.stands_in(program, place, behind(part, ()), around, others)
+            self.stands_in(program, place, ("first", ("pair", part, part)), around,
+                           [("first", ("left", one)) for one in papers])
+
+    def stands_in(self, program, place, other, around, others):
+        whole_one = replaced(program, place, other)
+        paper = joined(around, others)
+        self.assertEqual(looked(whole_one, paper), around_looked(program, place, around))
+        self.assertEqual(marks(paper), around_marks(around) + sum([marks(one) for one in others]))
+        told = run(whole_one, 400)
+        self.assertIn(told[0], ("answer", "more"))
+        if told[0] == "answer":
+            self.assertEqual((answer_kind(told[1]), told[2]), (looked(whole_one, paper)[0], marks(paper)))
+            self.assertEqual(in_order(paper), paper_of(whole_one, 400))
+
+    def by_rules_ahead(self, program, kind, rules):
+        for place in rule_places(program):
+            word, came_to, many = run(behind(program, place), 400)
+            self.assertEqual((word, answer_kind(came_to), many), ("answer", kind, rules - met(program, place, 400)))
 
 
 if __name__ == "__main__":
